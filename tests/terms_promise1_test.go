@@ -2,7 +2,6 @@ package tests
 
 import (
 	"fmt"
-	"reflect"
 	"slices"
 	"strings"
 	"testing"
@@ -46,76 +45,15 @@ func termCalls(x termArgs) map[string][]any {
 	}
 }
 
-// isZero reports whether a result is a zero value, or an empty slice.
-func isZero(result any) bool {
-	v := reflect.ValueOf(result)
-	return v.Kind() == reflect.Slice && v.Len() == 0 || v.IsZero()
-}
-
-// overwrite changes all elements of a result that is a slice, its unused capacity included.
-func overwrite(result any) {
-	switch list := result.(type) {
-	case []impl.Node:
-		fill(list, impl.Node{Kind: 99, A: -1, B: -1, P: -1, Q: -1})
-	case []impl.Ask:
-		fill(list, impl.Ask{Node: -1, Places: -1})
-	case []int64:
-		fill(list, -99)
-	case []int8:
-		fill(list, -99)
-	}
-}
-
-func fill[T any](list []T, with T) {
-	list = list[:cap(list)]
-	for i := range list {
-		list[i] = with
-	}
-}
-
-// spare returns a slice with the same elements, and others in its unused capacity.
-func spare[T any](list []T, other T) []T {
-	long := append(slices.Clone(list), other, other, other)
-	return long[:len(list)]
-}
-
-func whole[T any](list []T) []T { return slices.Clone(list[:cap(list)]) }
-
-// checkTermCalls checks that no call changes an argument, that results are new, that a second call returns the same,
-// and that errors stand alone.
+// checkTermCalls is checkPurity of the functions of chapter 2.
 func checkTermCalls(t *testing.T, x termArgs) map[string][]any {
 	t.Helper()
 	x.t, x.u, x.digits = spare(x.t, pi), spare(x.u, euler), spare(x.digits, 77)
 	beforeT, beforeU, beforeDigits := whole(x.t), whole(x.u), whole(x.digits)
-	first, second := termCalls(x), termCalls(x)
-	unchanged := func(when string) {
-		t.Helper()
-		if !slices.Equal(whole(x.t), beforeT) || !slices.Equal(whole(x.u), beforeU) || !slices.Equal(whole(x.digits), beforeDigits) {
-			t.Errorf("%s: an argument has been changed: %v", when, x)
-		}
+	intact := func() bool {
+		return slices.Equal(whole(x.t), beforeT) && slices.Equal(whole(x.u), beforeU) && slices.Equal(whole(x.digits), beforeDigits)
 	}
-	unchanged("after the calls")
-	for name, got := range first {
-		if !reflect.DeepEqual(got, second[name]) {
-			t.Errorf("%s of %v: got %v, and then %v", name, x, got, second[name])
-		}
-		for _, result := range got[:len(got)-1] {
-			if code := got[len(got)-1].(int64); code != impl.OK && !isZero(result) {
-				t.Errorf("%s of %v: got %v together with the code %d", name, x, result, code)
-			}
-		}
-	}
-	kept := fmt.Sprint(second)
-	for _, got := range first {
-		for _, result := range got {
-			overwrite(result)
-		}
-	}
-	unchanged("after results have been overwritten")
-	if fmt.Sprint(second) != kept {
-		t.Errorf("results of two calls share memory: %v", x)
-	}
-	return second
+	return checkPurity(t, fmt.Sprint(x), func() map[string][]any { return termCalls(x) }, intact)
 }
 
 var someNumbers = []int64{-1 << 63, -1 << 32, -65536, -1, 0, 1, 2, 15, 16, 39, 40, 63, 64, 65, 160, 161, 65536, 1 << 32, 1<<63 - 1}

@@ -1,0 +1,86 @@
+package tests
+
+import (
+	"fmt"
+	"reflect"
+	"slices"
+	"testing"
+
+	"loop.example/g01242/impl"
+)
+
+// What promise 1 asks for is checked in the same way in each chapter.
+
+// checkPurity calls all functions of a chapter twice, which return, by name, their results with the code as the last one:
+// no call may change an argument (intact tells), all results are new, both calls return the same, and errors stand alone.
+// It returns what the calls have returned.
+func checkPurity(t *testing.T, args string, calls func() map[string][]any, intact func() bool) map[string][]any {
+	t.Helper()
+	first, second := calls(), calls()
+	if !intact() {
+		t.Errorf("an argument has been changed: %s", args)
+	}
+	for name, got := range first {
+		if !reflect.DeepEqual(got, second[name]) {
+			t.Errorf("%s of %s: got %v, and then %v", name, args, got, second[name])
+		}
+		for _, result := range got[:len(got)-1] {
+			if code := got[len(got)-1].(int64); code != impl.OK && !isZero(result) {
+				t.Errorf("%s of %s: got %v together with the code %d", name, args, result, code)
+			}
+		}
+	}
+	kept := fmt.Sprint(second)
+	for _, got := range first {
+		for _, result := range got {
+			overwrite(result)
+		}
+	}
+	if !intact() {
+		t.Errorf("a result shares memory with an argument: %s", args)
+	}
+	if fmt.Sprint(second) != kept {
+		t.Errorf("results of two calls share memory: %s", args)
+	}
+	return second
+}
+
+// isZero reports whether a result is a zero value, or an empty slice.
+func isZero(result any) bool {
+	v := reflect.ValueOf(result)
+	return v.Kind() == reflect.Slice && v.Len() == 0 || v.IsZero()
+}
+
+// overwrite changes all elements of a result that has slices, their unused capacity included.
+func overwrite(result any) {
+	switch list := result.(type) {
+	case []impl.Node:
+		fill(list, impl.Node{Kind: 99, A: -1, B: -1, P: -1, Q: -1})
+	case []impl.Ask:
+		fill(list, impl.Ask{Node: -1, Places: -1})
+	case []int64:
+		fill(list, -99)
+	case []int8:
+		fill(list, -99)
+	case impl.Stream:
+		fill(list.Head, -99)
+		fill(list.Loop, -99)
+	case []impl.Turn:
+		fill(list, impl.Turn{Told: true, Digit: -99, State: impl.Moebius{A: -99, B: -99, C: -99, D: -99}})
+	}
+}
+
+func fill[T any](list []T, with T) {
+	list = list[:cap(list)]
+	for i := range list {
+		list[i] = with
+	}
+}
+
+// spare returns a slice with the same elements, and others in its unused capacity.
+func spare[T any](list []T, other T) []T {
+	long := append(slices.Clone(list), other, other, other)
+	return long[:len(list)]
+}
+
+func whole[T any](list []T) []T { return slices.Clone(list[:cap(list)]) }
