@@ -45,6 +45,23 @@ func checkPurity(t *testing.T, args string, calls func() map[string][]any, intac
 	return second
 }
 
+// codeOf returns the code of a call.
+func codeOf(got []any) int64 { return got[len(got)-1].(int64) }
+
+// wantNamed checks the codes of all calls that are named.
+func wantNamed(t *testing.T, args string, results map[string][]any, want int64, names ...string) {
+	t.Helper()
+	for _, name := range names {
+		got, ok := results[name]
+		if !ok {
+			t.Fatalf("there is no %s", name)
+		}
+		if codeOf(got) != want {
+			t.Errorf("%s of %s: got %q, want %q", name, args, impl.CodeName(codeOf(got)), impl.CodeName(want))
+		}
+	}
+}
+
 // isZero reports whether a result is a zero value, or an empty slice.
 func isZero(result any) bool {
 	v := reflect.ValueOf(result)
@@ -65,6 +82,10 @@ func overwrite(result any) {
 	case impl.Stream:
 		fill(list.Head, -99)
 		fill(list.Loop, -99)
+	case []impl.Ratio:
+		fill(list, impl.Ratio{P: -99, Q: -99})
+	case []impl.Move:
+		fill(list, impl.Move{Kind: -99, Term: -99})
 	case []impl.Turn:
 		fill(list, impl.Turn{Told: true, Digit: -99, State: impl.Moebius{A: -99, B: -99, C: -99, D: -99}})
 	}

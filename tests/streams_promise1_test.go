@@ -104,22 +104,10 @@ func isApart(x, y []int8) bool {
 	return apart
 }
 
-// codeOf returns the code of a call.
-func codeOf(got []any) int64 { return got[len(got)-1].(int64) }
-
 // wantCodes checks the codes of all calls that are named.
 func wantCodes(t *testing.T, x streamArgs, want int64, names ...string) {
 	t.Helper()
-	results := checkStreamCalls(t, x)
-	for _, name := range names {
-		got, ok := results[name]
-		if !ok {
-			t.Fatalf("there is no %s", name)
-		}
-		if codeOf(got) != want {
-			t.Errorf("%s of %v: got %q, want %q", name, x, impl.CodeName(codeOf(got)), impl.CodeName(want))
-		}
-	}
+	wantNamed(t, fmt.Sprint(x), checkStreamCalls(t, x), want, names...)
 }
 
 func TestPromise1StreamsReturnTheSameForAll(t *testing.T) {
