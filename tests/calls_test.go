@@ -84,6 +84,15 @@ func overwrite(result any) {
 		fill(list.Loop, -99)
 	case []impl.Ratio:
 		fill(list, impl.Ratio{P: -99, Q: -99})
+	case []impl.Wide:
+		fill(list, impl.Wide{Neg: true})
+	case [][]impl.Wide:
+		for _, inner := range list {
+			fill(inner, impl.Wide{Neg: true})
+		}
+		fill(list, nil)
+	case []impl.Part:
+		fill(list, impl.Part{Places: -99})
 	case []impl.Move:
 		fill(list, impl.Move{Kind: -99, Term: -99})
 	case []impl.Turn:

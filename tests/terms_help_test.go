@@ -205,13 +205,18 @@ func modelEuler(n int64) *big.Int {
 	return bigNear(sum, 16)
 }
 
-// modelDigits follows TermDigits, and returns the last s as well.
+// digits follows TermDigits, and returns the last s as well.
 func (m *termModel) digits(node int16, count int64) (*big.Int, []int8, *big.Int) {
-	whole := bigNear(m.ask(node, 2), 2)
+	return modelDigits(count, func(n int64) *big.Int { return m.ask(node, n) })
+}
+
+// modelDigits does so for what is asked in place of a node.
+func modelDigits(count int64, ask func(n int64) *big.Int) (*big.Int, []int8, *big.Int) {
+	whole := bigNear(ask(2), 2)
 	s := whole
 	digits := []int8{}
 	for i := int64(1); i <= count; i++ {
-		e := bigDiff(m.ask(node, i+2), bigProduct(big.NewInt(8), s))
+		e := bigDiff(ask(i+2), bigProduct(big.NewInt(8), s))
 		digit := int64(0)
 		if e.Cmp(big.NewInt(2)) > 0 {
 			digit = 1
