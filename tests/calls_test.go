@@ -95,6 +95,14 @@ func overwrite(result any) {
 		fill(list, impl.Part{Places: -99})
 	case []impl.Move:
 		fill(list, impl.Move{Kind: -99, Term: -99})
+	case impl.Tree:
+		fill(list.Nodes, impl.Fork{Kind: -99, Digit: -99, Next: [3]int16{-99, -99, -99}})
+	case []impl.Row:
+		for _, row := range list {
+			fill(row.Asked, -99)
+			fill(row.Told, -99)
+		}
+		fill(list, impl.Row{})
 	case []impl.Turn:
 		fill(list, impl.Turn{Told: true, Digit: -99, State: impl.Moebius{A: -99, B: -99, C: -99, D: -99}})
 	}
