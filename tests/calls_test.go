@@ -3,8 +3,10 @@ package tests
 import (
 	"fmt"
 	"reflect"
+	"runtime"
 	"slices"
 	"testing"
+	"time"
 
 	"loop.example/g01242/impl"
 )
@@ -103,6 +105,19 @@ func overwrite(result any) {
 			fill(row.Told, -99)
 		}
 		fill(list, impl.Row{})
+	case []impl.Line:
+		fill(list, impl.Line{Name: "changed", Kind: -99, A: "changed", B: "changed", P: -99, Q: -99})
+	case []impl.Kept:
+		fill(list, impl.Kept{Name: "changed", Places: -99, Value: impl.Wide{Neg: true}})
+	case []impl.Proof:
+		fill(list, impl.Proof{A: "changed", B: "changed", Places: -99})
+	case []string:
+		fill(list, "changed")
+	case [][]string:
+		for _, inner := range list {
+			fill(inner, "changed")
+		}
+		fill(list, nil)
 	case []impl.Turn:
 		fill(list, impl.Turn{Told: true, Digit: -99, State: impl.Moebius{A: -99, B: -99, C: -99, D: -99}})
 	}
@@ -122,3 +137,15 @@ func spare[T any](list []T, other T) []T {
 }
 
 func whole[T any](list []T) []T { return slices.Clone(list[:cap(list)]) }
+
+// wantNoMoreRunning checks that no more goroutines run than before; one that has done its work may take a while to end.
+func wantNoMoreRunning(t *testing.T, before int) {
+	t.Helper()
+	for range 200 {
+		if runtime.NumGoroutine() <= before {
+			return
+		}
+		time.Sleep(5 * time.Millisecond)
+	}
+	t.Errorf("%d goroutines run, and %d ran before", runtime.NumGoroutine(), before)
+}

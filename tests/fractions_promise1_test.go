@@ -6,7 +6,6 @@ import (
 	"slices"
 	"strings"
 	"testing"
-	"time"
 
 	"loop.example/g01242/impl"
 )
@@ -246,11 +245,5 @@ func TestPromise1NothingRunsBehindACall(t *testing.T) {
 			impl.EightMoves(eightOf(m), full[:1], full)
 		}
 	}
-	for range 200 {
-		if runtime.NumGoroutine() <= before {
-			return
-		}
-		time.Sleep(5 * time.Millisecond)
-	}
-	t.Errorf("%d goroutines run, and %d ran before", runtime.NumGoroutine(), before)
+	wantNoMoreRunning(t, before)
 }
